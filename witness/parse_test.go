@@ -59,6 +59,8 @@ func TestParse(t *testing.T) {
 		{"inner, empty", [][]byte{{2}, deeper, {0}}, api.OK},
 		{"inner, a leaf", [][]byte{{2}, deeper, right}, api.OK},
 		{"a leaf, inner", [][]byte{{2}, left, deeper}, api.OK},
+		{"inner, hidden", [][]byte{{2}, deeper, hidden}, api.OK},
+		{"hidden, inner", [][]byte{{2}, hidden, deeper}, api.OK},
 		{"empty, hidden noughts", [][]byte{{2, 0}, noughts}, api.OK},
 
 		{"two empty ones", [][]byte{{2, 0, 0}}, api.ErrForm},
